@@ -1,4 +1,4 @@
-// Package record writes and reads the contents of a store's records: a method of each kind of record tells its fields, one after another, and serves both ways. It has the fields that the records of both versions share (see shared/doc/12-recone.md).
+// Package record writes and reads the contents of a store's records: a method of each kind of record tells its fields, one after another, and serves both ways. It has the kinds of fields that occur in records of both versions (see shared/doc/12-recone.md and 15-rectwo.md).
 package record
 
 import (
@@ -8,8 +8,13 @@ import (
 	"satchel/wire"
 )
 
-// None is where a pointer leads that leads nowhere.
-const None = -1
+const (
+	// None is where a pointer leads that leads nowhere.
+	None = -1
+
+	// SlotSize is the size of a slot, in which properties stand inline.
+	SlotSize = 8
+)
 
 // Coder goes over the fields of one record, which it either writes or reads.
 type Coder struct {
@@ -96,6 +101,37 @@ func (c *Coder) Token(token *int) {
 // Pointer is a field for None, or an id from 0 on and below limit.
 func (c *Coder) Pointer(id *int, limit int) {
 	c.number(id, 4, None, limit)
+}
+
+// Flag is a field with a byte that is 1 or 0.
+func (c *Coder) Flag(set *bool) {
+	n := 0
+	if *set {
+		n = 1
+	}
+	c.Below(&n, 1, 2)
+	*set = n == 1
+}
+
+// Rel are the fields with which a relationship begins in both versions: its ends, the token of its type, and its places in chains.
+func (c *Coder) Rel(link *api.Link, token *int) {
+	c.Node(&link.From)
+	c.Node(&link.To)
+	c.Token(token)
+	c.Pointer(&link.FromPrev, api.MaxRels)
+	c.Pointer(&link.FromNext, api.MaxRels)
+	c.Pointer(&link.ToPrev, api.MaxRels)
+	c.Pointer(&link.ToNext, api.MaxRels)
+}
+
+// Slots is a field of so many slots, whatever they hold.
+func (c *Coder) Slots(slots *[]byte, count int) {
+	if c.reader != nil {
+		*slots = c.reader.Raw(count * SlotSize)
+		return
+	}
+	c.Expect(len(*slots) == count*SlotSize)
+	c.writer.Raw(*slots)
 }
 
 // Labels is a field with a byte for each label that a node may have; the labels come first and ascend.
