@@ -2,156 +2,100 @@ package storeone
 
 import (
 	"satchel/api"
-	"satchel/blocks"
-	"satchel/graph"
-	"satchel/links"
-	"satchel/recfile"
 	"satchel/recone"
 	"satchel/record"
-	"satchel/tokens"
+	"satchel/store"
 	"satchel/value"
 )
 
-// reader reads the graph of a store, and gives up at the first thing that is wrong.
+// reader reads the graph of a store.
 type reader struct {
-	store *store
-	nodes map[int]api.NodeOne
-	rels  map[int]api.RelOne
-	props map[int]api.PropOne
-
-	// The ids of what an owner leads to.
-	ownedProps, ownedBlobs map[int]struct{}
+	*store.Store
+	nodes []api.NodeOne
+	rels  []api.RelOne
+	props []api.PropOne
+	owned store.Set // the properties to which an owner leads
 }
 
 // denote returns the graph of a store.
-func denote(s *store) api.Graph {
-	r := &reader{store: s, ownedProps: map[int]struct{}{}, ownedBlobs: map[int]struct{}{}}
+func denote(s *store.Store) api.Graph {
+	r := &reader{Store: s, owned: store.Set{}}
 	r.readRecords()
 	r.checkChains()
-	g := r.readGraph()
+	g := r.Graph(r.readNode, r.readRel)
 	r.checkOrphans()
-	wrong, _ := graph.Check(g)
-	demand(wrong)
+	store.CheckGraph(g)
 	return g
 }
 
 func (r *reader) readRecords() {
-	r.nodes = readAll(r.store.nodes, recone.GetNode, r.checkNode)
-	r.rels = readAll(r.store.rels, recone.GetRel, r.checkRel)
-	r.props = readAll(r.store.props, recone.GetProp, r.checkProp)
-}
-
-// readAll returns the records in use of a file. Each is checked before the next is read.
-func readAll[T any](f *recfile.File, get func([]byte) (T, api.Errno), check func(T)) map[int]T {
-	all := map[int]T{}
-	for id, contents := range f.All() {
-		stored := must(get(contents))
-		check(stored)
-		all[id] = stored
-	}
-	return all
+	r.nodes = store.ReadAll(r.Records[store.Nodes], recone.GetNode, r.checkNode)
+	r.rels = store.ReadAll(r.Records[store.Rels], recone.GetRel, r.checkRel)
+	r.props = store.ReadAll(r.Records[store.Props], recone.GetProp, r.checkProp)
 }
 
 func (r *reader) checkNode(n api.NodeOne) {
-	namesOf(r.store.labels, n.Labels)
+	r.Names(store.Labels, n.Labels)
 }
 
 func (r *reader) checkRel(rel api.RelOne) {
-	_, from := r.nodes[rel.From]
-	_, to := r.nodes[rel.To]
-	expect(from && to, api.ErrEnd)
-	nameOf(r.store.types, rel.Type)
+	r.CheckRel(rel.Link, rel.Type)
 }
 
 func (r *reader) checkProp(p api.PropOne) {
-	nameOf(r.store.keys, p.Key)
+	r.Name(store.Keys, p.Key)
 }
 
-func nameOf(t *tokens.Table, token int) string {
-	name, found := t.Name(token)
-	expect(found, api.ErrToken)
-	return name
-}
-
-func namesOf(t *tokens.Table, numbers []int) []string {
-	var names []string
-	for _, token := range numbers {
-		names = append(names, nameOf(t, token))
-	}
-	return names
-}
-
-// checkChains walks along the chain of each node. A walk meets only relationships of the node, and none twice, so that their number tells whether it met all.
 func (r *reader) checkChains() {
-	list := make([]api.Link, r.store.rels.Count())
+	list := make([]api.Link, len(r.rels))
 	for id, rel := range r.rels {
 		list[id] = rel.Link
 	}
-	for id := range r.store.nodes.All() {
-		chain := must(links.Walk(list, id, r.nodes[id].Rel))
-		expect(len(chain) == len(links.Incident(list, id)), api.ErrChain)
+	for id := range r.Records[store.Nodes].All() {
+		store.CheckChain(list, id, r.nodes[id].Rel)
 	}
 }
 
-// readGraph returns the graph, with all its lists in order.
-func (r *reader) readGraph() api.Graph {
-	var g api.Graph
-	for id := range r.store.nodes.All() {
-		n := r.nodes[id]
-		labels := namesOf(r.store.labels, n.Labels)
-		g.Nodes = append(g.Nodes, api.Node{Id: id, Labels: labels, Props: r.readProps(n.Prop)})
-	}
-	for id := range r.store.rels.All() {
-		rel := r.rels[id]
-		name := nameOf(r.store.types, rel.Type)
-		g.Rels = append(g.Rels, api.Rel{Id: id, Type: name, From: rel.From, To: rel.To, Props: r.readProps(rel.Prop)})
-	}
-	return graph.Canon(g)
+func (r *reader) readNode(id int) api.Node {
+	n := r.nodes[id]
+	return api.Node{Id: id, Labels: r.Names(store.Labels, n.Labels), Props: r.readProps(n.Prop)}
+}
+
+func (r *reader) readRel(id int) api.Rel {
+	rel := r.rels[id]
+	return api.Rel{Id: id, Type: r.Name(store.Types, rel.Type), From: rel.From, To: rel.To, Props: r.readProps(rel.Prop)}
 }
 
 // readProps returns the properties of one owner.
 func (r *reader) readProps(first int) []api.Prop {
 	var props []api.Prop
-	keys := map[int]struct{}{}
+	keys := store.Set{}
 	previous := record.None
 	for id := first; id != record.None; {
-		expect(len(props) < api.MaxProps, api.ErrProps)
-		p, found := r.props[id]
-		expect(found, api.ErrId)
-		expect(add(r.ownedProps, id) && p.Prev == previous, api.ErrChain)
-		expect(add(keys, p.Key), api.ErrTwice)
-		props = append(props, api.Prop{Key: nameOf(r.store.keys, p.Key), Val: r.readValue(p)})
+		store.Expect(len(props) < api.MaxProps, api.ErrProps)
+		store.Expect(r.Has(store.Props, id), api.ErrId)
+		p := r.props[id]
+		store.Expect(r.owned.Add(id) && p.Prev == previous, api.ErrChain)
+		store.Expect(keys.Add(p.Key), api.ErrTwice)
+		props = append(props, api.Prop{Key: r.Name(store.Keys, p.Key), Val: r.readValue(p)})
 		previous, id = id, p.Next
 	}
 	return props
 }
 
-// add puts an id into a set, and tells whether it is new there.
-func add(set map[int]struct{}, id int) bool {
-	_, found := set[id]
-	set[id] = struct{}{}
-	return !found
-}
-
 func (r *reader) readValue(p api.PropOne) api.Value {
 	if isInline(p.Kind) {
 		v := api.Value{Kind: p.Kind, Num: p.Num}
-		demand(value.Check(v))
+		store.Demand(value.Check(v))
 		return v
 	}
-	data := must(blocks.Load(r.store.blobs, p.Blob))
-	expect(add(r.ownedBlobs, p.Blob), api.ErrChain)
-	v := must(value.Decode(data))
-	expect(v.Kind == p.Kind, api.ErrKind)
+	v := store.Must(value.Decode(r.Blob(p.Blob)))
+	store.Expect(v.Kind == p.Kind, api.ErrKind)
 	return v
 }
 
-// checkOrphans looks for what no owner leads to. All blocks stand in valid chains, so that a walk can begin only where a blob begins.
+// checkOrphans looks for what no owner leads to.
 func (r *reader) checkOrphans() {
-	expect(len(r.ownedProps) == len(r.props), api.ErrOrphan)
-	for id := range r.store.blobs.All() {
-		_, owned := r.ownedBlobs[id]
-		_, e := blocks.Walk(r.store.blobs, id)
-		expect(owned || e != api.OK, api.ErrOrphan)
-	}
+	store.Expect(len(r.owned) == r.Records[store.Props].Live(), api.ErrOrphan)
+	r.CheckBlobs()
 }
