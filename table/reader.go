@@ -7,38 +7,24 @@ import (
 	"satchel/api"
 	"satchel/cell"
 	"satchel/graph"
-	"satchel/number"
+	"satchel/textual"
 )
 
-// set holds what may not occur a second time.
-type set[T comparable] map[T]struct{}
+// set holds ids of which none may occur a second time.
+type set map[int]struct{}
 
-func (s set[T]) has(x T) bool {
-	_, found := s[x]
+func (s set) has(id int) bool {
+	_, found := s[id]
 	return found
 }
 
-// add tells whether x is new.
-func (s set[T]) add(x T) bool {
-	if s.has(x) {
+// add tells whether id is new.
+func (s set) add(id int) bool {
+	if s.has(id) {
 		return false
 	}
-	s[x] = struct{}{}
+	s[id] = struct{}{}
 	return true
-}
-
-// checkNames returns the error of the first name that is not valid, or occurs earlier.
-func checkNames(names []string) api.Errno {
-	earlier := set[string]{}
-	for _, name := range names {
-		if !graph.GoodName(name) {
-			return api.ErrName
-		}
-		if !earlier.add(name) {
-			return api.ErrTwice
-		}
-	}
-	return api.OK
 }
 
 // readHeader returns the keys in the first row, which stand behind the fields of head.
@@ -47,7 +33,7 @@ func readHeader(rows [][]string, head []string) ([]string, api.Errno) {
 		return nil, api.ErrHeader
 	}
 	keys := rows[0][len(head):]
-	if checkNames(keys) != api.OK {
+	if textual.CheckNames(keys) != api.OK {
 		return nil, api.ErrHeader
 	}
 	return keys, api.OK
@@ -75,12 +61,12 @@ func readRows[T any](rows [][]string, head []string, read func(row, keys []strin
 
 // reader reads the rows of both texts.
 type reader struct {
-	nodes, rels set[int] // the ids in the rows that are read
+	nodes, rels set // the ids in the rows that are read
 }
 
 // readGraph gives the graph that rows stand for, whether it is valid or not.
 func readGraph(nodes, rels [][]string) (api.Graph, api.Errno) {
-	r := reader{nodes: set[int]{}, rels: set[int]{}}
+	r := reader{nodes: set{}, rels: set{}}
 	var g api.Graph
 	var e api.Errno
 	if g.Nodes, e = readRows(nodes, nodeHead(), r.node); e != api.OK {
@@ -122,18 +108,9 @@ func (r reader) rel(row, keys []string) (api.Rel, api.Errno) {
 	return rel, e
 }
 
-// readId reads an id below limit, and tells whether the field is one.
-func readId(field string, limit int64) (int, bool) {
-	n, e := number.ParseInt(field)
-	if e != api.OK || n < 0 || n >= limit {
-		return 0, false
-	}
-	return int(n), true
-}
-
 // newId reads an id that no earlier row has; wrong is the error of a field that is no id.
-func newId(field string, limit int64, earlier set[int], wrong api.Errno) (int, api.Errno) {
-	id, right := readId(field, limit)
+func newId(field string, limit int64, earlier set, wrong api.Errno) (int, api.Errno) {
+	id, right := textual.Id(field, limit)
 	if !right {
 		return 0, wrong
 	}
@@ -145,7 +122,7 @@ func newId(field string, limit int64, earlier set[int], wrong api.Errno) (int, a
 
 // end reads the id of a node at which a relationship starts or ends.
 func (r reader) end(field string) (int, api.Errno) {
-	id, right := readId(field, api.MaxNodes)
+	id, right := textual.Id(field, api.MaxNodes)
 	if !right || !r.nodes.has(id) {
 		return 0, api.ErrEnd
 	}
@@ -157,7 +134,7 @@ func readLabels(field string) ([]string, api.Errno) {
 		return nil, api.OK
 	}
 	labels := strings.Split(field, separator)
-	return labels, checkNames(labels)
+	return labels, textual.CheckNames(labels)
 }
 
 // readProps reads the values with which a row ends.
